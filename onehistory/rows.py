@@ -40,6 +40,10 @@ class History:
             raise NoMoment(moment)
         return self._trees[moment]
 
+    def row(self):
+        """All entries."""
+        return list(self._row)
+
     def twin(self):
         """A history alike that goes on by itself."""
         other = History()
