@@ -24,11 +24,11 @@ class Going:
         if self._ended_at is not None:
             return False
         if not self._wayfarer.ahead:
-            return self._end(None)
+            return self._finish(None)
         try:
             self._wayfarer.go_on(self._house.now())
         except Fault as fault:
-            return self._end((fault.word, fault.path, fault.gone))
+            return self._finish((fault.word, fault.path, fault.gone))
         return True
 
     def is_done(self):
@@ -53,7 +53,7 @@ class Going:
             raise Fault(word, path, gone)
         return Road(self._wayfarer.trail, self._wayfarer.thing)
 
-    def _end(self, fault):
+    def _finish(self, fault):
         """It ends, or begins anew where what it looked at has turned; told is whether it goes on."""
         tree = self._house.now()
         looked = self._wayfarer.looked

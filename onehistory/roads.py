@@ -10,7 +10,7 @@ class Road:
 
     def __init__(self, steps, found):
         self._trail = tuple(steps)
-        self._end = found
+        self._thing = found
 
     def steps(self):
         """The steps, tuples (folder, name or `..`, what is come to)."""
@@ -18,16 +18,16 @@ class Road:
 
     def found(self):
         """The thing at the end."""
-        return self._end
+        return self._thing
 
     def __eq__(self, other):
-        return isinstance(other, Road) and self._trail == other._trail and self._end == other._end
+        return isinstance(other, Road) and self._trail == other._trail and self._thing == other._thing
 
     def __len__(self):
         return len(self._trail)
 
     def __repr__(self):
-        return f"Road({list(self._trail)}, {self._end})"
+        return f"Road({list(self._trail)}, {self._thing})"
 
 
 def road_of(tree, path, *, at=0, held=False, follow=True):

@@ -166,6 +166,12 @@ class TestLanguage(unittest.TestCase):
             self.assertEqual(len(methods), len(set(methods)), kind.name)
             self.assertEqual(set(methods) & set(fields), set(), kind.name)
 
+    def test_no_attribute_has_the_name_of_a_method(self):
+        kinds = [kind for tree in TREES.values() for kind in nodes(tree, ast.ClassDef)]
+        methods = {node.name for kind in kinds for node in kind.body if isinstance(node, ast.FunctionDef)}
+        fields = {node.attr for kind in kinds for node in nodes(kind, ast.Attribute) if isinstance(node.ctx, ast.Store)}
+        self.assertEqual(methods & fields, set())
+
     @of_each_file
     def test_strings(self, tree):
         documents = [ast.get_docstring(node, clean=False)
