@@ -20,6 +20,10 @@ FUNCTIONS = {
     "globs": {"is_pattern": "(thing)", "fits": "(pattern, path)", "globbed": "(tree, pattern, *, at=0)",
               "walked": "(tree, *, at=0)"},
     "walks": {"lets_walk": "(row, thing, *, at=0)"},
+    "views": {"view_of": "(tree, thing, *, beneath=True)", "differences": "(one, other)", "put_on": "(view, notes)",
+              "notes_between": "(row, thing, start, end, *, beneath=True)"},
+    "locks": {"bars": "(one, other)"},
+    "rings": {"rings": "(locks)", "waits_for": "(locks)", "to_give_way": "(locks)", "is_ring": "(locks, thing)"},
 }
 AT = ", *, at=0, held=False)"
 CLASSES = {
@@ -53,8 +57,17 @@ CLASSES = {
         "__init__": "(self, house, *, at=0)", "step": "(self)", "is_done": "(self)", "waiting": "(self)",
         "listings": "(self)", "things": "(self)",
     },
+    ("watches", "Watch"): {
+        "__init__": "(self, house, thing=0, *, beneath=True, room=20)", "first": "(self)", "seen": "(self)",
+        "notes": "(self)", "taken": "(self)", "look": "(self)", "is_full": "(self)", "noted_to": "(self)",
+    },
+    ("locks", "Locks"): {
+        "__init__": "(self)", "ask": "(self, who, file, begin, end=None, *, shared=False)",
+        "free": "(self, who, file, begin, end=None)", "leave": "(self, who)", "drop": "(self, who)",
+        "is_waiting": "(self, who)", "held": "(self)", "waiting": "(self)", "twin": "(self)", "__len__": "(self)",
+    },
 }
-VALUES = {("tree", "ROOT"): 0}
+VALUES = {("tree", "ROOT"): 0, ("watches", "ROOM"): 20}
 
 
 def found(module):
