@@ -24,6 +24,9 @@ FUNCTIONS = {
               "notes_between": "(row, thing, start, end, *, beneath=True)"},
     "locks": {"bars": "(one, other)"},
     "rings": {"rings": "(locks)", "waits_for": "(locks)", "to_give_way": "(locks)", "is_ring": "(locks, thing)"},
+    "recipes": {"broken_fall": "(word)"},
+    "archives": {"packed": "(tree, folder=0, *, only=None)", "unpacked": "(house, path, text, *, at=0, held=False)",
+                 "whole_rows": "(text)"},
 }
 AT = ", *, at=0, held=False)"
 CLASSES = {
@@ -66,8 +69,25 @@ CLASSES = {
         "free": "(self, who, file, begin, end=None)", "leave": "(self, who)", "drop": "(self, who)",
         "is_waiting": "(self, who)", "held": "(self)", "waiting": "(self)", "twin": "(self)", "__len__": "(self)",
     },
+    ("disk", "Disk"): {
+        "__init__": "(self, house)", "keep": "(self, handle)", "keep_names": "(self)", "sure": "(self)",
+        "unsure": "(self)", "is_choice": "(self, thing)", "choices": "(self, *, most=200)",
+        "choice_by": "(self, number)", "fall": "(self, choice)", "renumbered": "(self)", "house": "(self)",
+        "twin": "(self)", "__len__": "(self)",
+    },
+    ("recipes", "Recipe"): {
+        "__init__": "(self, disk, path, text, *, beside='beside', at=0, held=False, without=())", "step": "(self)",
+        "left": "(self)", "is_done": "(self)",
+    },
+    ("books", "Book"): {
+        "__init__": "(self, disk, path" + AT, "put": "(self, line, *, sure=True)", "keep": "(self)",
+        "lines": "(self)", "kept": "(self)", "__len__": "(self)",
+    },
+    ("unpacking", "Unpacking"): {
+        "__init__": "(self, house, path, text" + AT, "step": "(self)", "left": "(self)", "moments": "(self)",
+    },
 }
-VALUES = {("tree", "ROOT"): 0, ("watches", "ROOM"): 20}
+VALUES = {("tree", "ROOT"): 0, ("watches", "ROOM"): 20, ("recipes", "STEPS"): ("make", "write", "keep", "move", "names")}
 
 
 def found(module):
