@@ -5,7 +5,7 @@ from onehistory.bringing import Bringing, thing_by_names
 from onehistory.changes import MOST_CHANGES
 from onehistory.errors import Fault, NoPath, TooMany
 from onehistory.globs import walked
-from onehistory.names import MOST_STEPS, UP, is_path, joined, parted
+from onehistory.names import MOST_STEPS, UP, joined, parted
 from onehistory.roads import led_to
 
 
@@ -58,8 +58,6 @@ def _picked(tree, folder, only):
 
 
 def _picked_way(tree, folder, path):
-    if not is_path(path):
-        raise NoPath(path)
     top, names = parted(path)
     if top or names == () or UP in names:
         raise NoPath(path)

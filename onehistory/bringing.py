@@ -30,7 +30,7 @@ class Bringing:
         return tree.names(self.folder_of(row)).get(steps[-1])
 
     def come_to(self, row):
-        """The folder to which the rows ahead came at a row's path, or None."""
+        """The folder at a row's path, as it was found or come to by rows ahead; None where none is known."""
         return self._folders.get(_steps(row))
 
     def bring(self, row, standing, thing):
@@ -97,7 +97,7 @@ def _look_ahead(tree, place, rows):
         top, steps = parted(path)
         if top or UP in steps or kind == "again" and worth not in files:
             raise Outside(number)
-        if steps and _kind_at(tree, place, kinds, steps[:-1]) != "folder":
+        if _kind_at(tree, place, kinds, steps[:-1]) != "folder":
             raise Outside(number)
         stands = _kind_at(tree, place, kinds, steps)
         if stands is not None and not goes_together(kind, stands):

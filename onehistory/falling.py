@@ -44,9 +44,10 @@ class Kept:
     def keep_file(self, row, file):
         """All that counts to a file is kept, and the names up to the last all that writes or cuts it."""
         self.files_until[file] = len(row)
-        for number in range(self.names_until, len(row)):
-            if row[number][0] == "all" and alters(row[number], file):
-                self.names_until = number + 1
+        behind = range(self.names_until, len(row))
+        alls = [number for number in behind if row[number][0] == "all" and alters(row[number], file)]
+        if alls:
+            self.names_until = alls[-1] + 1
 
     def unsure(self, row):
         """What isn't kept: tuples (number, entry)."""

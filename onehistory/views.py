@@ -31,7 +31,7 @@ def put_on(view, notes):
             stands = {one: what for one, what in stands.items() if not _is_from(one, way)}
         elif word == "shown":
             for more, what in difference[2]:
-                stands[(*way, *more)] = what
+                stands[way + more] = what
         else:
             stands[way] = difference[2]
     return {way: stands[way] for way in sorted(stands)}

@@ -148,6 +148,10 @@ class TestUnpacked(unittest.TestCase):
             house = House([("make", 0, "p", 1, FOLDER)])
             unpacked(house, path, archive("folder 5 .", "folder 6 n"), at=at, held=held)
             self.assertEqual((house.now().mark(place), house.now().parent(2)), (5, (place, "n")))
+        # Not held where that is left out.
+        house = House([("make", 0, "p", 1, FOLDER)])
+        unpacked(house, "/", archive("folder 5 ."), at=1)
+        self.assertEqual(house.now().mark(0), 5)
 
     def test_things_in_the_order_of_rows(self):
         house = House()
@@ -172,6 +176,10 @@ class TestUnpacked(unittest.TestCase):
         tree = house.now()
         self.assertEqual((tree.names(0)["a"], tree.names(1)["b"], tree.names(1)["z"], tree.mark(1)), (1, 2, 3, 0))
         self.assertEqual(house.read("a/b/f"), "hello")
+        # With nothing beneath them, too.
+        house = House([("make", 0, "a", 1, FOLDER), ("make", 1, "b", 2, FOLDER)])
+        unpacked(house, "/", archive("folder 1 .", "folder 2 a", "folder 0 c", "folder 3 a/b"))
+        self.assertEqual([house.now().mark(thing) for thing in house.now().things()], [1, 2, 3, 0])
         # By rows ahead, too: the last one's mark.
         house = House()
         unpacked(house, "/", archive("folder 0 .", "folder 1 a", "file 0 0 a/f\n", "folder 2 a", "file 0 0 a/g\n", "folder 3 a"))
@@ -202,6 +210,10 @@ class TestUnpacked(unittest.TestCase):
         for other in ("x", "g", "a", ".", "/f", "a/f", "a/../f", "..", "l", "h"):
             text = archive("folder 0 .", "folder 0 a", "file 0 0 f\n", "again g f", "link 0 l f", f"again z {other}", "file 0 0 h\n")
             self.refused(Outside, 6, text)
+        # Beneath files of the house, and of rows, there is nothing.
+        for path in ("k/x/y", "k/x", "f/x/y", "l/x/y"):
+            text = archive("folder 0 .", "file 0 0 f\n", f"folder 0 {path}")
+            self.refused(Outside, 3, text, [("make", 0, "k", 1, FILE), ("make", 0, "l", 2, ("link", "/"))])
         # What stands in the house is no row ahead.
         self.refused(Outside, 2, archive("folder 0 .", "again z f"), [("make", 0, "f", 1, FILE)])
 

@@ -58,6 +58,8 @@ class TestAsItIsMade(unittest.TestCase):
         disk = disk_with("one\n")
         for path, at, held in (("f", 1, False), ("../a/f", 1, False), ("/f", 1, True)):
             self.assertEqual(Book(disk=disk, path=path, at=at, held=held).lines(), ["one"])
+        # Not held where that is left out.
+        self.assertEqual(Book(disk, "/a/f", at=1).lines(), ["one"])
         self.assertRaises(TypeError, Book, disk, "f", 1)
 
     def test_refusals(self):

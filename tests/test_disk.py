@@ -427,8 +427,10 @@ class TestFall(unittest.TestCase):
         self.assertEqual((disk.renumbered(), disk.house().falls(), disk.house().read("f")), ({7: 8}, 3, "nld"))
 
     def test_twins(self):
-        disk = begun(("make", 0, "g", 3, FILE), ("write", 3, 0, "x"))
-        disk.fall((0, ()))
+        disk = begun(("write", 1, 0, "x"), ("make", 0, "g", 3, FILE))
+        disk.fall((1, ((1, 0, 0),)))
+        self.assertEqual(disk.twin().renumbered(), {3: 4})
+        disk.twin().renumbered().clear()
         disk.house().make("h", FOLDER)
         disk.house().make("h/i", FOLDER)
         disk.keep_names()
@@ -441,13 +443,13 @@ class TestFall(unittest.TestCase):
                          (disk.house().row(), disk.unsure(), disk.sure(), disk.renumbered()))
         other.keep(handle)
         other.house().mark("/", 1)
-        self.assertEqual((numbers(disk), numbers(other)), ([8], [9]))
+        self.assertEqual((numbers(disk), numbers(other)), ([9], [10]))
         disk.keep_names()
         disk.house().mark("/", 2)
-        self.assertEqual((numbers(disk), numbers(other)), ([8, 9], [9]))
+        self.assertEqual((numbers(disk), numbers(other)), ([9, 10], [10]))
         other.fall((0, ()))
         self.assertEqual((disk.house().falls(), other.house().falls(), disk.house().read("f")), (1, 2, "nld"))
-        self.assertEqual(numbers(disk), [8, 9])
+        self.assertEqual(numbers(disk), [9, 10])
 
 
 def counts_to(entry):

@@ -126,6 +126,11 @@ class TestLanguage(unittest.TestCase):
                     self.assertTrue(isinstance(right, ast.Constant) and right.value in (None, True, False), node.lineno)
 
     @of_each_file
+    def test_no_star_in_an_index(self, tree):
+        for node in nodes(tree, ast.Subscript):
+            self.assertEqual(nodes(node.slice, ast.Starred), [], node.lineno)
+
+    @of_each_file
     def test_builtins_and_names(self, tree):
         known = set(dir(builtins))
         bound = [node.id for node in nodes(tree, ast.Name) if isinstance(node.ctx, ast.Store)]
@@ -144,6 +149,8 @@ class TestLanguage(unittest.TestCase):
         self.assertEqual(words & BARRED, set())
         for word in words - SPECIAL:
             self.assertRegex(word, r"^(_|_?[A-Za-z][A-Za-z0-9_]*)$")
+            self.assertNotRegex(word, r"^(_wall|_pe_|_dcw_|_enum_|_cm_|_twin_re_|_lay_|_law_|_stub_|_sre|_WallAttr)")
+            self.assertNotRegex(word, r"^_(cold|tuplegetter|outside|record|written_out|member_names)[0-9_]*$")
 
     @of_each_file
     def test_methods(self, tree):

@@ -103,6 +103,10 @@ class TestSteps(unittest.TestCase):
             recipe = Recipe(disk, path, "newer", at=at, held=held, beside="b", without=())
             recipe.step()
             self.assertEqual(new_entries(disk), [("make", folder, "b", 6, FILE)])
+        # Not held where that is left out.
+        disk = begun()
+        Recipe(disk, "/f", "newer", at=1).step()
+        self.assertEqual(new_entries(disk), [("make", 0, "beside", 6, FILE)])
         self.assertRaises(TypeError, Recipe, begun(), "f", "newer", "b")
 
     def test_the_folder_is_that_of_its_making(self):

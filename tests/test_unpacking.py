@@ -61,6 +61,10 @@ class TestRowByRow(unittest.TestCase):
                 self.assertEqual(packed(house.now(), 1), WHOLE)
             else:
                 self.assertEqual(house.listed("/"), ["a", "e", "f", "l", "p", "q"])
+        # Not held where that is left out.
+        house = House([("make", 0, "p", 1, FOLDER)])
+        brought(Unpacking(house, "/", archive("folder 5 ."), at=1))
+        self.assertEqual(house.now().mark(0), 5)
         self.assertRaises(TypeError, Unpacking, House(), "/", WHOLE, 0)
 
     def test_the_same_as_at_once(self):
