@@ -114,6 +114,11 @@ def numbered_on(tree, last):
     """A twin of a tree, but that the greatest number that was ever made is last."""
     things = tree._things.twin()
     things.greatest = last
+    return tree_with(things)
+
+
+def tree_with(things):
+    """A tree that has these tables, which nobody changes any more."""
     other = Tree()
     other._things = things
     return other

@@ -27,6 +27,9 @@ FUNCTIONS = {
     "recipes": {"broken_fall": "(word)"},
     "archives": {"packed": "(tree, folder=0, *, only=None)", "unpacked": "(house, path, text, *, at=0, held=False)",
                  "whole_rows": "(text)"},
+    "records": {"are_records": "(thing)", "knows": "(record, other)"},
+    "folding": {"tree_of": "(records)", "identities_of": "(records)"},
+    "hands": {"meet": "(one, other)", "lead": "(house, hand)"},
 }
 AT = ", *, at=0, held=False)"
 CLASSES = {
@@ -85,6 +88,15 @@ CLASSES = {
     },
     ("unpacking", "Unpacking"): {
         "__init__": "(self, house, path, text" + AT, "step": "(self)", "left": "(self)", "moments": "(self)",
+    },
+    ("copies", "Copy"): {
+        "__init__": "(self, house, path, other, to)", "step": "(self)", "is_done": "(self)", "pieces": "(self)",
+        "left_out": "(self)", "came_to": "(self)", "as_at": "(self)",
+    },
+    ("hands", "Hand"): {
+        "__init__": "(self, number)", "do": "(self, change)", "keep": "(self)", "fall": "(self)", "records": "(self)",
+        "tree": "(self)", "identities": "(self)", "called": "(self)", "twin": "(self)", "__eq__": "(self, other)",
+        "__len__": "(self)",
     },
 }
 VALUES = {("tree", "ROOT"): 0, ("watches", "ROOM"): 20, ("recipes", "STEPS"): ("make", "write", "keep", "move", "names")}

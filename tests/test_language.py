@@ -13,7 +13,7 @@ TREES = {name: ast.parse(text) for name, text in FILES.items()}
 
 BUILTINS = set("""
     len range enumerate zip min max sum abs sorted reversed int str bool list tuple dict set isinstance ord repr any all
-    divmod iter next map Exception ValueError TypeError KeyError IndexError LookupError ZeroDivisionError ArithmeticError
+    divmod iter next map type Exception ValueError TypeError KeyError IndexError LookupError ZeroDivisionError ArithmeticError
     OverflowError RuntimeError NotImplementedError AttributeError StopIteration
 """.split())
 METHODS = set("""
@@ -48,6 +48,12 @@ def bound_at_top(tree):
         if isinstance(node, ast.ImportFrom):
             names.extend(alias.name for alias in node.names)
     return names
+
+
+def is_type_of(node):
+    """Whether it is `type(x)` of a name."""
+    return (isinstance(node, ast.Call) and isinstance(node.func, ast.Name) and node.func.id == "type"
+            and len(node.args) == 1 and isinstance(node.args[0], ast.Name))
 
 
 def of_each_file(check):
@@ -122,8 +128,20 @@ class TestLanguage(unittest.TestCase):
             self.assertIsNotNone(node.type)
         for node in nodes(tree, ast.Compare):
             for sign, right in zip(node.ops, node.comparators):
-                if isinstance(sign, (ast.Is, ast.IsNot)):
+                if isinstance(sign, (ast.Is, ast.IsNot)) and not self.are_types(sign, node.left, right):
                     self.assertTrue(isinstance(right, ast.Constant) and right.value in (None, True, False), node.lineno)
+
+    def are_types(self, sign, *sides):
+        """Whether it is `type(a) is type(b)`."""
+        return isinstance(sign, ast.Is) and all(is_type_of(side) for side in sides)
+
+    @of_each_file
+    def test_types_are_compared_or_named_alone(self, tree):
+        found = [node for node in nodes(tree, ast.Name) if node.id == "type"]
+        fits = [side.func for node in nodes(tree, ast.Compare) if self.are_types(node.ops[0], node.left, node.comparators[0])
+                for side in (node.left, node.comparators[0])]
+        fits += [node.value.func for node in nodes(tree, ast.Attribute) if node.attr == "__name__" and is_type_of(node.value)]
+        self.assertEqual(set(found), set(fits))
 
     @of_each_file
     def test_no_star_in_an_index(self, tree):
@@ -144,7 +162,7 @@ class TestLanguage(unittest.TestCase):
         for node in nodes(tree, ast.Name):
             if isinstance(node.ctx, ast.Load) and node.id in known:
                 self.assertIn(node.id, BUILTINS, node.lineno)
-        words = set(bound) | {node.attr for node in nodes(tree, ast.Attribute)}
+        words = set(bound) | {node.attr for node in nodes(tree, ast.Attribute) if not is_type_of(node.value)}
         words |= {node.name for node in nodes(tree, ast.FunctionDef)}
         self.assertEqual(words & BARRED, set())
         for word in words - SPECIAL:
