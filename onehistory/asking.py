@@ -93,14 +93,21 @@ class Site:
         return self.watches[thing]
 
 
+def is_ask_of(thing, words):
+    """Whether a thing, of anything, is an ask by one of these words, with as many things as are told by it."""
+    if not isinstance(thing, tuple) or not thing or not isinstance(thing[0], str):
+        return False
+    return thing[0] in words and len(thing) == 1 + len(words[thing[0]])
+
+
 def is_ask_at_once(thing):
     """Whether a thing, of anything, is an ask that is answered at once."""
-    return _is_ask(thing, AT_ONCE)
+    return is_ask_of(thing, AT_ONCE)
 
 
 def is_ask_begun(thing, number, many):
     """Whether a thing, of anything, is an ask that can be begun at the house of this number, one of so many."""
-    if not _is_ask(thing, BEGUN):
+    if not is_ask_of(thing, BEGUN):
         return False
     return thing[0] != COPY or is_whole(thing[2]) and 0 <= thing[2] < many and thing[2] != number
 
@@ -155,12 +162,6 @@ def moments_at_end(word, begun):
     if word == COPY:
         return [piece[2] for piece in begun.pieces()]
     return []
-
-
-def _is_ask(thing, words):
-    if not isinstance(thing, tuple) or not thing or not isinstance(thing[0], str):
-        return False
-    return thing[0] in words and len(thing) == 1 + len(words[thing[0]])
 
 
 def _make(site, _asker, path, what):

@@ -26,6 +26,15 @@ class Disk:
         self._kept.keep_all_names(self._house.row())
         return self._house.moment()
 
+    def keep_so(self, file, until):
+        """The names are kept, and what counts to a file ahead of a moment."""
+        self._kept.keep_all_names(self._house.row())
+        self._kept.keep_file_until(file, until)
+
+    def told_kept(self):
+        """What of its house is told kept, to be looked at alone."""
+        return self._kept
+
     def sure(self):
         """The number of the first entry that isn't sure, the moment now where there is none."""
         unsure = self.unsure()

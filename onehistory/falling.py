@@ -49,6 +49,10 @@ class Kept:
         if alls:
             self.names_until = alls[-1] + 1
 
+    def keep_file_until(self, file, until):
+        """What counts to a file ahead of a moment is kept."""
+        self.files_until[file] = max(until, self.files_until.get(file, self.begin))
+
     def unsure(self, row):
         """What isn't kept: tuples (number, entry)."""
         found = [(number, row[number]) for number in range(self.begin, len(row))]

@@ -1,4 +1,4 @@
-"""The interface, as far as it is built: each name stands in its file, with its arguments, as the document lists it."""
+"""The interface: each name stands in its file, with its arguments, as the document lists it."""
 
 import ast
 import importlib
@@ -30,6 +30,8 @@ FUNCTIONS = {
     "records": {"are_records": "(thing)", "knows": "(record, other)"},
     "folding": {"tree_of": "(records)", "identities_of": "(records)"},
     "hands": {"meet": "(one, other)", "lead": "(house, hand)"},
+    "judge": {"amiss": "(record, paper)", "lets_record": "(record, paper)"},
+    "texts": {"shown": "(rows)", "read_rows": "(text)"},
 }
 AT = ", *, at=0, held=False)"
 CLASSES = {
@@ -98,6 +100,11 @@ CLASSES = {
         "tree": "(self)", "identities": "(self)", "called": "(self)", "twin": "(self)", "__eq__": "(self, other)",
         "__len__": "(self)",
     },
+    ("world", "World"): {
+        "__init__": "(self, many=1)", "play": "(self, rows)", "record": "(self)", "paper": "(self)", "beats": "(self)",
+        "busy": "(self)", "house": "(self, number)", "twin": "(self)", "__len__": "(self)",
+    },
+    ("desk", "Desk"): {"__init__": "(self)", "say": "(self, row)", "__len__": "(self)"},
 }
 VALUES = {("tree", "ROOT"): 0, ("watches", "ROOM"): 20, ("recipes", "STEPS"): ("make", "write", "keep", "move", "names")}
 
