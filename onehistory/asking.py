@@ -21,7 +21,6 @@ UNPACK = "unpack"
 WHOLE = "whole"
 GOING = "going"
 WALK = "walk"
-ALL = "all"
 
 # What is asked with, by the word of an ask that is answered at once.
 AT_ONCE = {
@@ -38,7 +37,7 @@ AT_ONCE = {
     "write": ("number", "number", "signs"),
     "cut": ("number", "number"),
     "close": ("number",),
-    ALL: ("changes",),
+    "all": ("changes",),
     "keep": ("number",),
     "keep names": (),
     "road": ("path",),
@@ -55,11 +54,11 @@ AT_ONCE = {
 }
 # And by that of one that is begun, and answered at some later step.
 BEGUN = {
-    GOING: ("path",),
-    WALK: ("number",),
-    WHOLE: ("path", "signs", "text"),
-    UNPACK: ("path", "text"),
-    COPY: ("path", "number", "path"),
+    "going": ("path",),
+    "walk": ("number",),
+    "whole": ("path", "signs", "text"),
+    "unpack": ("path", "text"),
+    "copy": ("path", "number", "path"),
 }
 
 
@@ -93,21 +92,24 @@ class Site:
         return self.watches[thing]
 
 
-def is_ask_of(thing, words):
-    """Whether a thing, of anything, is an ask by one of these words, with as many things as are told by it."""
-    if not isinstance(thing, tuple) or not thing or not isinstance(thing[0], str):
-        return False
-    return thing[0] in words and len(thing) == 1 + len(words[thing[0]])
+def sorts_at_once(word):
+    """What is asked with by a word that is answered at once, None where it is none."""
+    return AT_ONCE.get(word)
+
+
+def sorts_begun(word):
+    """What is asked with by a word that is begun, None where it is none."""
+    return BEGUN.get(word)
 
 
 def is_ask_at_once(thing):
     """Whether a thing, of anything, is an ask that is answered at once."""
-    return is_ask_of(thing, AT_ONCE)
+    return has_word(thing) and has_all(thing, sorts_at_once(thing[0]))
 
 
 def is_ask_begun(thing, number, many):
     """Whether a thing, of anything, is an ask that can be begun at the house of this number, one of so many."""
-    if not is_ask_of(thing, BEGUN):
+    if not has_word(thing) or not has_all(thing, sorts_begun(thing[0])):
         return False
     return thing[0] != COPY or is_whole(thing[2]) and 0 <= thing[2] < many and thing[2] != number
 
@@ -162,6 +164,16 @@ def moments_at_end(word, begun):
     if word == COPY:
         return [piece[2] for piece in begun.pieces()]
     return []
+
+
+def has_word(thing):
+    """Whether a thing, of anything, is a tuple that begins with a text."""
+    return isinstance(thing, tuple) and thing != () and isinstance(thing[0], str)
+
+
+def has_all(thing, sorts):
+    """Whether there is something of each of some sorts, if there are such, behind a word, and no more."""
+    return sorts is not None and len(thing) == 1 + len(sorts)
 
 
 def _make(site, _asker, path, what):
@@ -313,7 +325,7 @@ ANSWERS = {
     "write": _write,
     "cut": _cut,
     "close": _close,
-    ALL: _do_all,
+    "all": _do_all,
     "keep": _keep,
     "keep names": _keep_names,
     "road": _road,
@@ -329,9 +341,9 @@ ANSWERS = {
     "unpacked": _unpacked,
 }
 BEGINNINGS = {
-    GOING: _going,
-    WALK: _walk,
-    WHOLE: _whole,
-    UNPACK: _unpack,
-    COPY: _copy,
+    "going": _going,
+    "walk": _walk,
+    "whole": _whole,
+    "unpack": _unpack,
+    "copy": _copy,
 }

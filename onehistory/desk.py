@@ -33,7 +33,7 @@ class Desk:
         """What a row is answered, or how it is refused."""
         word, things = _parted(row)
         if word == "names":
-            return BLANK.join(sorted(self._worlds)) if self._worlds else NOTHING
+            return " ".join(sorted(self._worlds)) if self._worlds else NOTHING
         name = things[0]
         if word == "world":
             return self._make(name, things[1])
@@ -45,7 +45,7 @@ class Desk:
             return OK
         if word == "play":
             answers = world.play(read_rows(things[1].replace(BETWEEN, END)))
-            return BETWEEN.join([repr(answer) for answer in answers])
+            return "; ".join([repr(answer) for answer in answers])
         if word == "amiss":
             return _told_amiss(world)
         if word == "beats":
@@ -69,7 +69,7 @@ def _told_amiss(world):
 
 def _told_paths(house):
     ways = ["/".join(way) for way, _ in walked(house.now())]
-    return BLANK.join(ways) if ways else NOTHING
+    return " ".join(ways) if ways else NOTHING
 
 
 def _parted(row):
@@ -81,7 +81,7 @@ def _parted(row):
     if word not in WORDS:
         raise NoDeskRow(row)
     if word == "play":
-        parts = [*parts[:2], BLANK.join(parts[2:])] if len(parts) > 2 else parts
+        parts = [*parts[:2], " ".join(parts[2:])] if len(parts) > 2 else parts
     if len(parts) != 1 + len(WORDS[word]):
         raise NoDeskRow(row)
     things = []

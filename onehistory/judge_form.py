@@ -1,5 +1,6 @@
 """Of what form records and papers are, whatever they tell."""
 
+from onehistory.asking import has_word
 from onehistory.errors import NoRow
 from onehistory.rows import History
 from onehistory.weaving import FALL, is_asker, is_number_of
@@ -50,7 +51,7 @@ def _is_told(thing, many):
     if not isinstance(thing, tuple) or len(thing) != 6:
         return False
     asker, begin, end, house, ask, answer = thing
-    if not is_count(begin) or not is_number_of(house, many) or not _is_asked(ask):
+    if not is_count(begin) or not is_number_of(house, many) or not has_word(ask):
         return False
     if end is None:
         return answer is None and is_asker(asker)
@@ -59,10 +60,6 @@ def _is_told(thing, many):
     if asker is None:
         return end == begin and _is_fall(ask)
     return is_asker(asker)
-
-
-def _is_asked(thing):
-    return isinstance(thing, tuple) and thing != () and isinstance(thing[0], str)
 
 
 def _is_fall(ask):

@@ -13,7 +13,7 @@ TEXT = "text"
 DEEDS = {
     "make": ("folder", "name", "what"),
     "name": ("file", "folder", "name"),
-    TEXT: ("ahead", "signs"),
+    "text": ("ahead", "signs"),
     "mark": ("thing", "mark"),
     "strike": ("naming",),
     "move": ("naming", "folder", "name"),

@@ -9,19 +9,43 @@ REFUSED = "refused"
 def answered(act, *things):
     """What a function of these things tells, or how it is refused: (`refused`, word, fields)."""
     try:
-        return act(*things)
-    except (NoPath, NoMoment, NoThing, NoHandle, NoPattern, NoRoom, NoStretch, Waiting) as none:
-        return REFUSED, type(none).__name__, (none.thing,)
+        return _answered_by_things(act, things)
     except NoChange as undone:
-        return REFUSED, type(undone).__name__, (undone.word,)
-    except (NoArchive, Outside, There) as bent:
-        return REFUSED, type(bent).__name__, (bent.number,)
-    except TooMany as many:
-        return REFUSED, type(many).__name__, (many.many,)
-    except Fallen as fallen:
-        return REFUSED, type(fallen).__name__, (fallen.since,)
+        return REFUSED, "NoChange", (undone.word,)
     except Fault as fault:
-        return REFUSED, type(fault).__name__, (fault.word, fault.path, fault.gone)
+        return REFUSED, "Fault", (fault.word, fault.path, fault.gone)
+    except Fallen as fallen:
+        return REFUSED, "Fallen", (fallen.since,)
+    except TooMany as many:
+        return REFUSED, "TooMany", (many.many,)
+    except NoArchive as bent:
+        return REFUSED, "NoArchive", (bent.number,)
+    except Outside as outer:
+        return REFUSED, "Outside", (outer.number,)
+    except There as there:
+        return REFUSED, "There", (there.number,)
+
+
+def _answered_by_things(act, things):
+    """The same of all refusals that are made of a thing."""
+    try:
+        return act(*things)
+    except NoPath as path:
+        return REFUSED, "NoPath", (path.thing,)
+    except NoMoment as moment:
+        return REFUSED, "NoMoment", (moment.thing,)
+    except NoThing as none:
+        return REFUSED, "NoThing", (none.thing,)
+    except NoHandle as handle:
+        return REFUSED, "NoHandle", (handle.thing,)
+    except NoPattern as pattern:
+        return REFUSED, "NoPattern", (pattern.thing,)
+    except NoRoom as room:
+        return REFUSED, "NoRoom", (room.thing,)
+    except NoStretch as stretch:
+        return REFUSED, "NoStretch", (stretch.thing,)
+    except Waiting as waiting:
+        return REFUSED, "Waiting", (waiting.thing,)
 
 
 def is_refused(thing):

@@ -1,11 +1,11 @@
 """Rows of worlds, written as texts and read from them."""
 
-from onehistory.asking import ALL, AT_ONCE, BEGUN, is_ask_of
+from onehistory.asking import has_all, has_word, sorts_at_once, sorts_begun
 from onehistory.changes import is_what
 from onehistory.errors import NoText, NoWeaving
 from onehistory.globs import is_pattern
 from onehistory.names import is_path, is_signs
-from onehistory.weaving import BEGIN, DO, FALL, STEP, word_of
+from onehistory.weaving import BEGIN, DO, word_of
 from onehistory.whole import is_count
 
 BLANK = " "
@@ -16,10 +16,15 @@ LINK = "link:"
 NO_SIGNS = "\\e"
 TRUTHS = {"yes": True, "no": False}
 # Signs that would part words or rows, and that by which they are told, each with how it is written.
-ESCAPES = (("\\", "\\\\"), (BLANK, "\\s"), (END, "\\n"))
+ESCAPES = (("\\", "\\\\"), (" ", "\\s"), ("\n", "\\n"))
 # What stands behind each row's word, ahead of what is asked.
-NUMBERS = {DO: ("number", "number"), BEGIN: ("number", "number"), STEP: ("number",), FALL: ("number", "number")}
-ASKS = {DO: AT_ONCE, BEGIN: BEGUN}
+NUMBERS = {
+    "do": ("number", "number"),
+    "begin": ("number", "number"),
+    "step": ("number",),
+    "fall": ("number", "number"),
+}
+ALL = "all"
 KEEP_NAMES = "keep names"
 KEEP_NAMES_WRITTEN = "keep-names"
 
@@ -33,8 +38,8 @@ def shown(rows):
         words = _row_words(row)
         if None in words:
             raise NoWeaving(number)
-        written.append(BLANK.join(words))
-    return END.join(written)
+        written.append(" ".join(words))
+    return "\n".join(written)
 
 
 def read_rows(text):
@@ -62,13 +67,21 @@ def number_read(word):
 def _row_words(row):
     """The words of a row, None in the stead of each that can't be written."""
     word = word_of(row)
-    if word not in ASKS:
+    if word not in (DO, BEGIN):
         return [None] if word is None else [word, *_words_of(NUMBERS[word], row[1:])]
     ask = row[3]
-    if not is_ask_of(ask, ASKS[word]) or ask[0] == ALL:
+    sorts = _sorts(word, ask[0]) if has_word(ask) else None
+    if not has_all(ask, sorts):
         return [None]
     asked = KEEP_NAMES_WRITTEN if ask[0] == KEEP_NAMES else ask[0]
-    return [word, *_words_of(NUMBERS[word], row[1:3]), asked, *_words_of(ASKS[word][ask[0]], ask[1:])]
+    return [word, *_words_of(NUMBERS[word], row[1:3]), asked, *_words_of(sorts, ask[1:])]
+
+
+def _sorts(word, asked):
+    """What is asked with by an ask's word in a row by its own word, None where such can't be written."""
+    if asked == ALL:
+        return None
+    return sorts_at_once(asked) if word == DO else sorts_begun(asked)
 
 
 def _words_of(sorts, things):
@@ -126,19 +139,19 @@ def _row_of(words):
     rest = words[1 + len(sorts):]
     if numbers is None:
         return None
-    if words[0] not in ASKS:
+    if words[0] not in (DO, BEGIN):
         return (words[0], *numbers) if rest == [] else None
-    ask = _ask_of(ASKS[words[0]], rest)
+    ask = _ask_of(words[0], rest)
     return None if ask is None else (words[0], *numbers, ask)
 
 
-def _ask_of(asks, words):
+def _ask_of(word, words):
+    """The ask that words tell in a row by its own word, None where they tell none."""
     if not words:
         return None
     asked = KEEP_NAMES if words[0] == KEEP_NAMES_WRITTEN else words[0]
-    if asked not in asks or asked == ALL:
-        return None
-    things = _things_of(asks[asked], words[1:])
+    sorts = _sorts(word, asked)
+    things = None if sorts is None else _things_of(sorts, words[1:])
     return None if things is None else (asked, *things)
 
 

@@ -9,7 +9,7 @@ BEGIN = "begin"
 STEP = "step"
 FALL = "fall"
 # How many things each row has, its word among them.
-SIZES = {DO: 4, BEGIN: 4, STEP: 2, FALL: 3}
+SIZES = {"do": 4, "begin": 4, "step": 2, "fall": 3}
 
 
 def is_row(thing, many, busy):

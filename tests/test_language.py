@@ -11,6 +11,9 @@ PACKAGE = pathlib.Path(__file__).resolve().parent.parent / "onehistory"
 FILES = {path.stem: path.read_text(encoding="utf-8") for path in sorted(PACKAGE.glob("*.py"))}
 TREES = {name: ast.parse(text) for name, text in FILES.items()}
 
+TABLES = {node.targets[0].id for tree in TREES.values() for node in tree.body
+          if isinstance(node, ast.Assign) and isinstance(node.value, (ast.Dict, ast.List))}
+
 BUILTINS = set("""
     len range enumerate zip min max sum abs sorted reversed int str bool list tuple dict set isinstance ord repr any all
     divmod iter next map type Exception ValueError TypeError KeyError IndexError LookupError ZeroDivisionError ArithmeticError
@@ -136,12 +139,27 @@ class TestLanguage(unittest.TestCase):
         return isinstance(sign, ast.Is) and all(is_type_of(side) for side in sides)
 
     @of_each_file
-    def test_types_are_compared_or_named_alone(self, tree):
+    def test_types_are_compared_alone(self, tree):
         found = [node for node in nodes(tree, ast.Name) if node.id == "type"]
         fits = [side.func for node in nodes(tree, ast.Compare) if self.are_types(node.ops[0], node.left, node.comparators[0])
                 for side in (node.left, node.comparators[0])]
-        fits += [node.value.func for node in nodes(tree, ast.Attribute) if node.attr == "__name__" and is_type_of(node.value)]
         self.assertEqual(set(found), set(fits))
+
+    @of_each_file
+    def test_tables_at_module_level_hold_plain_values_and_are_only_read(self, tree):
+        functions = [node.name for node in tree.body if isinstance(node, ast.FunctionDef)]
+        for node in tree.body:
+            if isinstance(node, ast.Assign):
+                named = [name.id for name in nodes(node.value, ast.Name)]
+                self.assertEqual([name for name in named if name not in functions], [], node.lineno)
+        above = {child: node for node in ast.walk(tree) for child in ast.iter_child_nodes(node)}
+        for node in nodes(tree, ast.Name):
+            if isinstance(node.ctx, ast.Load) and node.id in TABLES:
+                user = above[node]
+                reads = isinstance(user, (ast.Compare, ast.For, ast.comprehension))
+                reads |= isinstance(user, ast.Subscript) and user.value is node
+                reads |= isinstance(user, ast.Attribute) and user.attr in ("get", "items", "keys", "values")
+                self.assertTrue(reads, (node.lineno, node.id))
 
     @of_each_file
     def test_no_star_in_an_index(self, tree):
@@ -162,7 +180,7 @@ class TestLanguage(unittest.TestCase):
         for node in nodes(tree, ast.Name):
             if isinstance(node.ctx, ast.Load) and node.id in known:
                 self.assertIn(node.id, BUILTINS, node.lineno)
-        words = set(bound) | {node.attr for node in nodes(tree, ast.Attribute) if not is_type_of(node.value)}
+        words = set(bound) | {node.attr for node in nodes(tree, ast.Attribute)}
         words |= {node.name for node in nodes(tree, ast.FunctionDef)}
         self.assertEqual(words & BARRED, set())
         for word in words - SPECIAL:
