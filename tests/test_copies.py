@@ -245,7 +245,7 @@ class TestComing(unittest.TestCase):
         row = [("make", 0, "f", 1, FILE), ("write", 1, 0, "text"), ("mark", 1, 3)]
         for text, mark, due in (
             ("text", 3, []), ("text", 2, [("mark", 5, 3)]), ("te", 3, [("write", 5, 0, "text")]),
-            ("textual", 3, [("cut", 5, 4)]), ("", 3, [("write", 5, 0, "text")]),
+            ("textual", 3, [("cut", 5, 4)]), ("TEXT", 3, [("write", 5, 0, "text")]), ("", 3, [("write", 5, 0, "text")]),
         ):
             stand = [("make", 0, "a", 1, FILE), ("make", 0, "b", 2, FILE), ("make", 0, "c", 3, FILE),
                      ("make", 0, "d", 4, FILE), ("make", 0, "f", 5, FILE), ("write", 5, 0, text), ("mark", 5, mark)]

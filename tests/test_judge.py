@@ -169,7 +169,7 @@ class TestForm(unittest.TestCase):
         # Numbers of the record: 0 all, 1 going, 2 mark, 3 walk, 4 make, 5 whole, 6 open, 7 unpack, 8 write, 9 copy ..
         cases = [
             (0, 0, 4), (0, 3, 2), (1, 0, None), (1, 2, 0), (2, 1, 1), (2, 1, 0), (1, 2, 3), (1, 2, 1000), (2, 2, 5), (9, 1, 0),
-            (0, 0, None),
+            (0, 0, None), (2, 2, 2),
         ]
         for number, place, worth in cases:
             bending = Bending().field(number, place, worth)
@@ -299,6 +299,18 @@ class TestTold(unittest.TestCase):
         self.assertEqual(Bending(rows, 1).field(2, 5, ([[0, "a", 1]], 1)).found(), ("told", 2))
         self.assertEqual(Bending(rows, 1).field(2, 5, (((0, "a", 1),), 1)).found(), ("told", 2))
         self.assertIsNone(Bending(rows, 1).field(2, 5, ([(0, "a", 1)], 1)).found())
+
+    def test_dicts_and_lists_that_were_asked_with(self):
+        asked = {"a": [1, (2,)], "b": None}
+        rows = [("do", 0, 0, ("read", asked))]
+        self.assertEqual(Bending(rows, 1).record[0][5], ("refused", "NoPath", (asked,)))
+        self.assertIsNone(Bending(rows, 1).found())
+        for other in ({"a": [1, (2,)]}, {"a": [True, (2,)], "b": None}, {"a": [1, [2]], "b": None}, {"a": [1, (2,)], "c": None},
+                      {"a": [1, (2,)], "b": None, "c": 1}, {}, [], "a", {"a": [1, (2, 3)], "b": None}, {"a": [1], "b": None}):
+            bending = Bending(rows, 1).field(0, 5, ("refused", "NoPath", (other,)))
+            self.assertEqual(bending.found(), ("told", 0), other)
+        same = {"b": None, "a": [1, (2,)]}
+        self.assertIsNone(Bending(rows, 1).field(0, 5, ("refused", "NoPath", (same,))).found())
 
     def test_asks_that_are_none(self):
         for ask in (("read",), ("read", "a", "b"), ("going", "a"), ("walk", 0), ("fall", (0, ())), ("cut back", 0), ("",),
@@ -520,6 +532,9 @@ class TestByHand(unittest.TestCase):
         self.judged("untrue", ask, [2, 3], (1, 4, [2, 4]), ahead, within)
         self.judged("untrue", ask, (2, 3), (1, 4, [2, 3]), ahead, within)
         self.judged(None, ask, ("refused", "There", (2,)), (1, 4, []), ahead, within)
+        for none in (("REFUSED", "There", (2,)), ("refused", None, (2,)), ("refused", "There", [2]), ("refused", "There"),
+                     ["refused", "There", (2,)], ("refused", "There", (2,), 0), (None, "There", (2,))):
+            self.judged("untrue", ask, none, (1, 4, []), ahead, within)
         self.judged("untrue", ask, ("refused", "Fallen", (4,)), (1, 4, []), ahead, within)
 
     def test_a_copy(self):
@@ -548,6 +563,11 @@ class TestByHand(unittest.TestCase):
         judged(None, [6, 6, 6, 6], 6)
         judged("untrue", [2, 2, 2, 6], 6)
         judged(None, [2, 2, 2, 5], 5, left=[2])
+        for left in (["d"], [None], [True], [-1]):
+            judged("untrue", [2, 2, 2, 5], 5, left=left)
+        for piece in (["names", 0, 2], ("names", 0), ("names", 0, 2, 2), (0, 0, 2), (None, 0, 2), ("names", False, 2), ("names", 0, "2")):
+            answer = [piece], [], 2
+            self.judged("untrue", ask, answer, (2, 6, [2]), ahead, within, houses=2)
         for moments in ([1, 2, 2, 2], [2, 3, 2, 3], [2, 2, 2, 7]):
             judged("untrue", moments, moments[-1])
         judged("untrue", [2, 2, 2, 2], 2, pieces=[2, 2, 2, 3])
