@@ -91,7 +91,8 @@ class Placings:
 
     def _place_beside(self, text, identity):
         """What begins with a text comes where the file of the line ahead of it was, as far as that text knew."""
-        for naming in self._namings_of.get(self._lines.elder_of[identity], {}):
+        elder = self._lines.elder_of[identity]
+        for naming in list(self._namings_of.get(elder, {})):
             if not self._knows_strike(text, naming):
                 _, _, folder, wish = self._rows[self._rows_of[naming][-1]]
                 self._put(text, identity, folder, wish)

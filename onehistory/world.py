@@ -93,8 +93,9 @@ class World:
             answer = self._do(row[1], row[2], row[3])
         else:
             answer = self._begin_one(row[1], row[2], row[3])
-        for site, beats in zip(self._sites, self._beats_of):
-            beats.extend([len(self._played)] * (site.home.moment() - len(beats)))
+        beat = len(self._played)
+        lately = [[beat] * (site.home.moment() - len(beats)) for site, beats in zip(self._sites, self._beats_of)]
+        self._beats_of = [beats + new for beats, new in zip(self._beats_of, lately)]
         self._played.append(row)
         return answer
 
