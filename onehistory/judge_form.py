@@ -4,7 +4,7 @@ from onehistory.asking import has_word
 from onehistory.errors import NoRow
 from onehistory.rows import History
 from onehistory.weaving import FALL, is_asker, is_number_of
-from onehistory.whole import is_count, is_whole
+from onehistory.whole import is_count
 
 MOST_HOUSES = 3
 
@@ -66,13 +66,13 @@ def _is_fall(ask):
     if ask[0] != FALL or len(ask) != 2 or not isinstance(ask[1], tuple) or len(ask[1]) != 2:
         return False
     names, files = ask[1]
-    if not is_whole(names) or not isinstance(files, tuple):
+    if not is_count(names) or not isinstance(files, tuple):
         return False
     return all([_are_three(part) for part in files])
 
 
 def _are_three(thing):
-    return isinstance(thing, tuple) and len(thing) == 3 and all([is_whole(part) for part in thing])
+    return isinstance(thing, tuple) and len(thing) == 3 and all([is_count(part) for part in thing])
 
 
 def _are_beats(record):

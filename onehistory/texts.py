@@ -11,6 +11,8 @@ from onehistory.whole import is_count
 BLANK = " "
 END = "\n"
 MOST_FIGURES = 9
+# The greatest number of so many figures.
+GREATEST = 999999999
 NO_END = "-"
 LINK = "link:"
 NO_SIGNS = "\\e"
@@ -104,7 +106,7 @@ def _word(sort, thing):
         return _escaped(thing) if _are_signs(thing) else None
     if sort == "end" and thing is None:
         return NO_END
-    return f"{thing}" if is_count(thing) and thing < 10 ** MOST_FIGURES else None
+    return f"{thing}" if is_count(thing) and thing <= GREATEST else None
 
 
 def _what_word(thing):

@@ -190,9 +190,26 @@ class TestForm(unittest.TestCase):
             self.assertEqual(Bending().field(fall, 4, ("fall", choice)).found(), ("form", None), choice)
         for ask in (("fall",), ("fall", (0, ()), 1), ("falls", (0, ())), ("make", "x", FILE)):
             self.assertEqual(Bending().field(fall, 4, ask).found(), ("form", None))
-        # Any numbers.
-        for choice in ((0, ()), (99, ((1, 2, 3), (4, 5, 6)))):
+        # Any numbers from 0 on.
+        for choice in ((0, ()), (99, ((1, 2, 3), (4, 5, 6))), (0, ((0, 0, 0),)), (10 ** 30, ((10 ** 30, 10 ** 30, 10 ** 30),))):
             self.assertIsNone(Bending().field(fall, 4, ("fall", choice)).found())
+
+    def test_no_number_of_a_falls_choice_is_below_0(self):
+        record, paper = [(None, 0, 0, 0, ("fall", (0, ((0, 0, 0),))), 1)], ([[(0, ("cut back", 0))]], [(1, 1, [])])
+        self.assertIsNone(amiss(record, paper))
+        good = (3, 2, 1)
+        for below in (-1, -2, -10 ** 30):
+            bent = [(*good[:place], below, *good[place + 1:]) for place in range(3)]
+            choices = [(below, ()), (below, (good,)), *[(0, (three,)) for three in bent],
+                       *[(0, (good, three)) for three in bent], *[(0, (three, good)) for three in bent]]
+            for choice in choices:
+                self.form([(None, 0, 0, 0, ("fall", choice), 1)], paper)
+                bending = Bending()
+                bending.field(bending.number_of("fall"), 4, ("fall", choice))
+                self.form(bending.record, bending.paper)
+        # A fall that an asker asks is told amiss, whatever its choice.
+        asked = [(0, 0, 0, 0, ("fall", (-1, ())), 1)]
+        self.assertEqual(amiss(asked, paper), ("told", 0))
 
     def test_moments_and_pairs(self):
         bending = Bending()

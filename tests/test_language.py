@@ -162,6 +162,13 @@ class TestLanguage(unittest.TestCase):
                 self.assertTrue(reads, (node.lineno, node.id))
 
     @of_each_file
+    def test_exponents_are_written_numbers_up_to_64(self, tree):
+        powers = [(node.lineno, node.right) for node in nodes(tree, ast.BinOp) if isinstance(node.op, ast.Pow)]
+        powers += [(node.lineno, node.value) for node in nodes(tree, ast.AugAssign) if isinstance(node.op, ast.Pow)]
+        for line, exponent in powers:
+            self.assertTrue(isinstance(exponent, ast.Constant) and exponent.value in range(65), line)
+
+    @of_each_file
     def test_no_star_in_an_index(self, tree):
         for node in nodes(tree, ast.Subscript):
             self.assertEqual(nodes(node.slice, ast.Starred), [], node.lineno)

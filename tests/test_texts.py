@@ -98,6 +98,47 @@ class TestShown(unittest.TestCase):
                 self.assertIsNone(caught.exception.number)
 
 
+# Rows with a number at each place at which one may stand.
+WITH_NUMBERS = [
+    lambda number: ("do", number, 0, ("leave",)), lambda number: ("do", 0, number, ("leave",)),
+    lambda number: ("begin", number, 0, ("going", "a")), lambda number: ("begin", 0, number, ("going", "a")),
+    lambda number: ("step", number), lambda number: ("fall", number, 0), lambda number: ("fall", 0, number),
+    lambda number: ("do", 0, 0, ("mark", "a", number)), lambda number: ("do", 0, 0, ("text", number)),
+    lambda number: ("do", 0, 0, ("write", number, 0, "a")), lambda number: ("do", 0, 0, ("write", 0, number, "a")),
+    lambda number: ("do", 0, 0, ("cut", number, 0)), lambda number: ("do", 0, 0, ("cut", 0, number)),
+    lambda number: ("do", 0, 0, ("close", number)), lambda number: ("do", 0, 0, ("keep", number)),
+    lambda number: ("do", 0, 0, ("lock", number, 0, 5, True)), lambda number: ("do", 0, 0, ("lock", 0, number, 5, True)),
+    lambda number: ("do", 0, 0, ("lock", 0, 0, number, True)), lambda number: ("do", 0, 0, ("free", number, 0, None)),
+    lambda number: ("do", 0, 0, ("free", 0, number, None)), lambda number: ("do", 0, 0, ("free", 0, 0, number)),
+    lambda number: ("do", 0, 0, ("watch", number, True, 20)), lambda number: ("do", 0, 0, ("watch", 0, True, number)),
+    lambda number: ("do", 0, 0, ("taken", number)), lambda number: ("do", 0, 0, ("look", number)),
+    lambda number: ("begin", 0, 0, ("walk", number)), lambda number: ("begin", 0, 0, ("copy", "a", number, "b")),
+]
+GREATEST = 999999999
+
+
+class TestFigures(unittest.TestCase):
+    def test_nine_figures_are_written_and_read_back(self):
+        for made in WITH_NUMBERS:
+            for number in (0, 9, 100000000, GREATEST - 1, GREATEST):
+                row = made(number)
+                text = shown([GOOD, row])
+                self.assertIn(str(number), text.split("\n")[1].split(" "))
+                self.assertEqual(read_rows(text), [GOOD, row])
+
+    def test_ten_figures_are_refused_both_ways(self):
+        for made in WITH_NUMBERS:
+            for number in (GREATEST + 1, GREATEST + 2, 10 ** 10, 10 ** 30, 10 ** 5000):
+                with self.assertRaises(NoWeaving) as caught:
+                    shown([GOOD, made(number), GOOD])
+                self.assertEqual(caught.exception.number, 1, made(0))
+            text = shown([GOOD, made(GREATEST), GOOD])
+            for figures in (str(GREATEST + 1), "9" * 10, "0" + str(GREATEST), "9" * 5000):
+                with self.assertRaises(NoText) as caught:
+                    read_rows(text.replace(str(GREATEST), figures))
+                self.assertEqual(caught.exception.number, 1, made(0))
+
+
 class TestRead(unittest.TestCase):
     def none(self, text, number):
         with self.assertRaises(NoText) as caught:
