@@ -30,11 +30,11 @@ class World:
             raise NoWeaving(None)
         before = len(self._played)
         answers = []
-        for number, row in enumerate(own(rows)):
+        for number, row in enumerate(rows):
             if not is_row(row, len(self._sites), self._under_way):
                 self._go_back(before)
                 raise NoWeaving(number)
-            answers.append(own(self._play_one(row)))
+            answers.append(own(self._play_one(own(row))))
         return answers
 
     def record(self):

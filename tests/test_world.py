@@ -7,11 +7,13 @@ import unittest
 from onehistory.archives import packed
 from onehistory.errors import NoMoment, NoWeaving
 from onehistory.house import House
+from onehistory.judge import amiss
+from onehistory.owned import just_the_same, own
 from onehistory.rows import tree_at
 from onehistory.world import World
 from tests.test_archives import archive
 from tests.test_tree import FILE, FOLDER
-from tests.things import NO_NUMBERS, ODD
+from tests.things import KNOTTED, NO_NUMBERS, ODD
 from tests.weavings import drawn_world
 
 # A folder d with a file f, with the text "hello", and a link l to d.
@@ -109,6 +111,25 @@ class TestAtOnce(unittest.TestCase):
             for word in ("going", "walk", "unpack", "whole"):
                 ask = {"going": (thing,), "walk": (thing,), "unpack": ("/", thing), "whole": ("x", "", thing)}[word]
                 self.assertEqual(world.play([("begin", 1, 0, (word, *ask))])[0][0], "refused")
+
+    def test_things_that_hold_themselves(self):
+        for thing in KNOTTED:
+            world = begun()
+            told = asked(world, "read", thing)
+            self.assertTrue(just_the_same(told, ("refused", "NoPath", (thing,))))
+            asked(world, "mark", "d", thing)
+            self.assertEqual(world.play([("begin", 1, 0, ("walk", thing))])[0][:2], ("refused", "NoThing"))
+            with self.assertRaises(NoWeaving) as caught:
+                world.play([("step", 0), thing])
+            self.assertEqual(caught.exception.number, 0)
+            with self.assertRaises(NoWeaving) as caught:
+                world.play([("do", 0, 0, ("leave",)), thing])
+            self.assertEqual(caught.exception.number, 1)
+            for one in (world, world.twin()):
+                self.assertEqual((one.beats(), len(one)), (4, 4))
+                self.assertIsNone(amiss(one.record(), one.paper()))
+            self.assertIsNotNone(amiss([*world.record()[:3], thing], world.paper()))
+            self.assertEqual(amiss(thing, thing), ("form", None))
 
     def test_handles_are_numbered_for_each_house(self):
         world = World(2)
@@ -408,7 +429,7 @@ class TestTold(unittest.TestCase):
             for (asker, begin, end, house, ask, answer), span, row in zip(record, moments, due):
                 self.assertEqual((asker, house), row[:2])
                 if asker is not None:
-                    self.assertEqual(repr(ask), repr(row[2]))
+                    self.assertEqual(repr(ask), repr(own(row)[2]))
                 if end is None:
                     self.assertEqual((answer, span, asker in world.busy()), (None, None, True))
                     continue
